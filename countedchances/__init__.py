@@ -1,0 +1,1 @@
+"""Learning chances by counting."""
