@@ -31,6 +31,14 @@ def counts_of(columns, number, rows):
     return table
 
 
+def tally(rows):
+    """How often each row, as a tuple, is among the rows."""
+    often = {}
+    for row in rows:
+        often[tuple(row)] = often.get(tuple(row), 0) + 1
+    return often
+
+
 def fitted_chances(columns, rows, before, ahead_above, ahead_below):
     """For each column the table of the chances fitted with a fraction ahead."""
     fitted = []

@@ -1,15 +1,20 @@
 """The calls on an object that holds a model, data rows and chances."""
 
 from countedchances.columns import how_many_fillings, how_many_groups, is_row_of, one_form, size_of
-from countedchances.counting import become_chances, counts_of, first_chances, fitted_chances
+from countedchances.counting import become_chances, counts_of, first_chances, fitted_chances, tally
+from countedchances.expected import NoChance, TooGreat, chances_behind_step, parts_of, sum_of
 from countedchances.fault import Fault
+from countedchances.fillings import fillings_of, row_chance, sums_by
+from countedchances.ratio import lowest, times
 from countedchances.reading import read_model
 
 NO_MODEL = -1
 NO_SUCH = -2
 WRONG_FORM = -3
 TOO_MANY_ROWS = -4
+CHANCE_ZERO = -6
 TOO_MANY_FILLINGS = -8
+TOO_GREAT_NUMBER = -9
 
 MOST_ROWS = 100
 MOST_FILLINGS = 1024
@@ -129,6 +134,91 @@ def answer_set(held, call):
     return [1]
 
 
+def answer_even(held, call):
+    held.chances = first_chances(held.model.columns)
+    return [1]
+
+
+def answer_likely(held, call):
+    likely = (1, 1)
+    for row, often in tally(held.rows).items():
+        chance = row_chance(weighed(held, row))
+        for turn in range(often):
+            likely = times(likely, chance)
+    return [1, likely[0], likely[1]]
+
+
+def answer_expect(held, call):
+    columns = held.model.columns
+    try:
+        parts = parts_of(columns, held.chances, held.rows)
+    except NoChance:
+        return [CHANCE_ZERO]
+    answer = [len(columns)]
+    for number, cells in enumerate(parts):
+        answer.extend(table_head(columns, number))
+        for cell in cells:
+            answer.extend(sum_of(cell))
+    return answer
+
+
+def answer_step(held, call):
+    try:
+        parts = parts_of(held.model.columns, held.chances, held.rows)
+        held.chances = chances_behind_step(parts, held.chances)
+    except NoChance:
+        return [CHANCE_ZERO]
+    except TooGreat:
+        return [TOO_GREAT_NUMBER]
+    return [1]
+
+
+def answer_chance(held, call):
+    refusal = row_refusal(held, call.listed)
+    if refusal != 0:
+        return [refusal]
+    chance = row_chance(weighed(held, call.listed))
+    return [1, chance[0], chance[1]]
+
+
+def answer_post(held, call):
+    columns = held.model.columns
+    number = call.numbers[0]
+    if not is_there(number, len(columns)):
+        return [NO_SUCH]
+    refusal = row_refusal(held, call.listed)
+    if refusal != 0:
+        return [refusal]
+    fillings = weighed(held, call.listed)
+    total = sum(fillings.weights)
+    if total == 0:
+        return [CHANCE_ZERO]
+    size = size_of(columns[number].kind)
+    answer = [size]
+    for weight in sums_by(fillings.ranks[number], fillings.weights, size):
+        answer.extend(lowest(weight, total))
+    return answer
+
+
+def answer_fill(held, call):
+    refusal = row_refusal(held, call.listed)
+    if refusal != 0:
+        return [refusal]
+    fillings = weighed(held, call.listed)
+    greatest = max(fillings.weights)
+    chance = lowest(greatest, fillings.below)
+    first = fillings.weights.index(greatest)
+    answer = [fillings.weights.count(greatest), chance[0], chance[1]]
+    for ranks, column in zip(fillings.ranks, held.model.columns):
+        answer.append(column.kind.low + ranks[first])
+    return answer
+
+
+def weighed(held, row):
+    """The fillings of the row, weighed by the chances that are held."""
+    return fillings_of(held.model.columns, held.chances, row)
+
+
 def table_head(columns, number):
     """What is told ahead of a column's table: how many groups and how many values it has."""
     column = columns[number]
@@ -145,6 +235,13 @@ CALLS = {
     5: (answer_fit, 2, False),
     6: (answer_chances, 1, False),
     7: (answer_set, 2, True),
+    8: (answer_even, 0, False),
+    9: (answer_likely, 0, False),
+    10: (answer_expect, 0, False),
+    11: (answer_step, 0, False),
+    12: (answer_chance, 0, True),
+    13: (answer_post, 1, True),
+    14: (answer_fill, 0, True),
 }
 
 

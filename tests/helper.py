@@ -44,6 +44,34 @@ def set_group(i, g, weights):
     return [7, i, g] + listed(weights)
 
 
+def even():
+    return [8]
+
+
+def likely():
+    return [9]
+
+
+def expect():
+    return [10]
+
+
+def step():
+    return [11]
+
+
+def chance(*numbers):
+    return [12] + listed(numbers)
+
+
+def post(i, *numbers):
+    return [13, i] + listed(numbers)
+
+
+def fill(*numbers):
+    return [14] + listed(numbers)
+
+
 def split(given):
     """The answers, each a list of its own."""
     parts = []
@@ -75,8 +103,8 @@ def form_of(answer):
 
 
 def everything(columns):
-    """The calls that tell all that is held of a model with so many columns, but for its rows with gaps."""
-    told = [shown()]
+    """The calls that tell all that is held of a model with so many columns."""
+    told = [shown(), likely(), expect()]
     for i in range(columns):
         told.append(counts(i))
         told.append(chances(i))

@@ -19,7 +19,7 @@ OPERATORS = (
     ast.RShift)
 OWN_NAMES = (
     "len range enumerate zip min max sum abs sorted reversed int str bool list tuple dict isinstance ord repr any all "
-    "divmod Exception ValueError KeyError ZeroDivisionError").split()
+    "divmod set Exception ValueError KeyError ZeroDivisionError").split()
 METHODS = (
     "append clear copy count endswith extend find get index insert isalnum isalpha isdigit islower isspace isupper "
     "items join keys ljust lower lstrip partition pop remove replace reverse rfind rjust rpartition rsplit rstrip "
@@ -166,6 +166,58 @@ class Trees(unittest.TestCase):
                 if isinstance(node, ast.Constant):
                     self.assertNotIsInstance(node.value, (float, complex, bytes), where)
                     self.assertNotIn("%", str(node.value), where)
+
+    def test_one_plain_target_in_an_assignment(self):
+        for path, tree in trees():
+            for node in ast.walk(tree):
+                if isinstance(node, (ast.Assign, ast.AugAssign)):
+                    target = node.targets[0] if isinstance(node, ast.Assign) else node.target
+                    self.assertIsInstance(target, (ast.Name, ast.Attribute, ast.Subscript), (path, node.lineno))
+
+    def test_sets_stand_straight_within_sorted_or_len(self):
+        for path, tree in trees():
+            calls = [node for node in ast.walk(tree) if isinstance(node, ast.Call) and isinstance(node.func, ast.Name)]
+            within = [
+                node.args[0] for node in calls if node.func.id in ("sorted", "len") and not node.keywords]
+            for node in calls:
+                if node.func.id in ("set", "frozenset"):
+                    self.assertIn(node, within, (path, node.lineno))
+
+    def test_what_is_walked_at_once(self):
+        walking = ("list", "tuple", "dict", "sorted", "sum", "any", "all", "enumerate", "zip", "min", "max")
+        for path, tree in trees():
+            allowed = []
+            for node in ast.walk(tree):
+                if isinstance(node, (ast.For, ast.comprehension)):
+                    allowed.append(node.iter)
+                if isinstance(node, ast.Call) and isinstance(node.func, ast.Name) and node.func.id in walking:
+                    allowed.extend(node.args[:1])
+            for node in ast.walk(tree):
+                if isinstance(node, ast.Call):
+                    name = node.func.id if isinstance(node.func, ast.Name) else node.func.attr
+                    if name in ("zip", "enumerate", "reversed", "range", "items", "keys", "values"):
+                        self.assertIn(node, allowed, (path, node.lineno))
+
+    def test_what_a_loop_walks_is_not_changed_in_it(self):
+        for path, tree in trees():
+            for loop in ast.walk(tree):
+                if not isinstance(loop, ast.For):
+                    continue
+                walked = {ast.unparse(node) for node in ast.walk(loop.iter) if isinstance(node, (ast.Name, ast.Attribute))}
+                for node in [inner for part in loop.body for inner in ast.walk(part)]:
+                    if isinstance(node, ast.Subscript) and isinstance(node.ctx, ast.Store):
+                        self.assertNotIn(ast.unparse(node.value), walked, (path, node.lineno))
+                    if isinstance(node, ast.Call) and isinstance(node.func, ast.Attribute):
+                        if node.func.attr in ("append", "extend", "pop", "insert", "remove", "clear", "update"):
+                            self.assertNotIn(ast.unparse(node.func.value), walked, (path, node.lineno))
+
+    def test_errors_are_taken_by_their_own_names(self):
+        for path, tree in trees():
+            for node in ast.walk(tree):
+                if isinstance(node, ast.ExceptHandler):
+                    self.assertNotIn(ast.unparse(node.type), dir(builtins), (path, node.lineno))
+                if isinstance(node, ast.Raise):
+                    self.assertIsInstance(node.exc, ast.Call, (path, node.lineno))
 
     def test_functions_and_classes(self):
         for path, tree in trees():

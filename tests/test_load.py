@@ -2,7 +2,10 @@
 
 import unittest
 
-from tests.helper import WEATHER, chances, counts, everything, fit, form_of, last, load, row, run, set_group, shown
+from tests.helper import (
+    GAP, WEATHER, chance, chances, counts, even, everything, expect, fill, fit, form_of, last, likely, load, post, row,
+    run, set_group, shown, step,
+)
 
 LONG = "Abcdefghijklmno"
 
@@ -213,6 +216,28 @@ class OneForm(unittest.TestCase):
 
 class WhatLoadLeaves(unittest.TestCase):
     CHANGED = [load(WEATHER), row(1, 2, 1), fit(1, 2), set_group(2, 5, [1, 3])]
+    STEPPED = CHANGED + [row(0, GAP, 1), row(GAP, 2, GAP), step(), set_group(1, 0, [1, 2, 4])]
+
+    def test_a_fault_leaves_gaps_and_stepped_chances_as_they_were(self):
+        many = len(self.STEPPED)
+        wanted = run(*self.STEPPED, *everything(3), step(), *everything(3))[many:]
+        self.assertNotEqual(wanted[:9], run(*self.CHANGED, *everything(3))[4:])
+        for text in ("", "!", "table T c flag ; c flag ;", "table T c num 5000 1 ;", " " * 4097, WEATHER + ";"):
+            with self.subTest(text=text[:30]):
+                given = run(*self.STEPPED, load(text), *everything(3), step(), *everything(3))
+                self.assertEqual(given[many][0], 0)
+                self.assertEqual(given[many + 1:], wanted)
+
+    def test_a_model_begins_anew_behind_gaps_and_steps(self):
+        many = len(self.STEPPED)
+        asked = everything(3) + [step(), even()] + everything(3) + [row(0, 0, GAP), chance(1, GAP, 0)]
+        self.assertEqual(run(*self.STEPPED, load(WEATHER), *asked)[many:], run(load(WEATHER), *asked))
+        given = run(
+            *self.STEPPED, load("table T c num 3 5 ;"), likely(), expect(), step(), chances(0), chance(4), chance(1, 2, 1),
+            post(0, GAP), post(1, GAP), fill(GAP), row(GAP), likely(), expect())
+        self.assertEqual(given[many:], [
+            [1], [1, 1, 1], [1, 1, 3, 0, 1, 0, 1, 0, 1], [1], [1, 3, 1, 3, 1, 3, 1, 3], [1, 1, 3], [-3],
+            [3, 1, 3, 1, 3, 1, 3], [-2], [3, 1, 3, 3], [0], [1, 1, 1], [1, 1, 3, 1, 3, 1, 3, 1, 3]])
 
     def test_a_fault_leaves_all_as_it_was(self):
         wanted = run(*self.CHANGED, *everything(3))[4:]
